@@ -1,0 +1,1 @@
+"""Saywell: messages in many tongues."""
