@@ -1,5 +1,10 @@
 """What several files of tests share: slow but plain answers to set beside those of the program."""
 
+from saywell.houses import House
+from saywell.patterns import read
+from saywell.rules import read_rules
+from saywell.tongues import Tongue
+
 DIVISORS = [m for m in range(2, 301) if 300 % m == 0]
 GREAT = 10 ** 60
 
@@ -84,3 +89,36 @@ def beside(condition):
     """Numbers at and beside the ends of selves, small ones, and ones of many figures."""
     ends = [end + step for end in ends_of(condition) for step in (-2, -1, 0, 1, 300)]
     return [n for n in ends if 0 <= n <= GREAT] + [0, 1, 2, 299, 300, 301, 10 ** 59, GREAT - 1, GREAT]
+
+
+LEAP = ("and", [("rest", 4, 0, 0), ("not", ("and", [("rest", 100, 0, 0), ("not", ("rest", 300, 0, 0))]))])
+COMMON = ([31, 28, 31, 30, 31, 30, 31, 31, 30, 31, 30, 31], 2, LEAP)
+ENGLISH = (3, 3, ",", "-", "0123456789")
+
+
+def a_tongue(name, falls=(), rules="one: self in 1..1; other", joiners=("nothing", " and ", ", ", " and "),
+             figures=ENGLISH, calendar=COMMON, dayform=("dmy", ".", None)):
+    return Tongue(name, list(falls), read_rules(rules), joiners, figures, calendar, dayform)
+
+
+def a_house(tongues=(), things=("cat", "dog"), kinds=("m", "f"), ranks=("low", "high")):
+    house = House(list(kinds), list(ranks), list(things))
+    for tongue in tongues:
+        house.add(a_tongue(tongue) if isinstance(tongue, str) else tongue)
+    return house
+
+
+def put(house, tongue, key, text):
+    house.put(tongue, key, read(text))
+
+
+def told_of(house):
+    """All that a house tells, in one thing that can be set beside another one."""
+    names = house.tongues()
+    keys = house.messages()
+    return (
+        house.kinds(), house.ranks(), house.things(), names, [house.tongue_named(name) for name in names],
+        [(key, house.gaps(key), house.is_whole(key)) for key in keys],
+        [(name, thing, house.own_word(name, thing)) for name in names for thing in house.things()],
+        [(name, key, house.piece(name, key)) for name in names for key in keys],
+    )
