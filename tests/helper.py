@@ -122,3 +122,122 @@ def told_of(house):
         [(name, thing, house.own_word(name, thing)) for name in names for thing in house.things()],
         [(name, key, house.piece(name, key)) for name in names for key in keys],
     )
+
+
+RULES = [
+    "other",
+    "one: self in 1..1; other",
+    "one: self in 1..1; few: (rest 10 in 2..4 and not rest 100 in 12..14); many",
+    "zero: self in 0..0; even: rest 2 in 0..0; odd",
+    "big: self from 7; one: not (self from 2 or rest 2 in 0..0); other",
+]
+WORDS = ["one", "few", "many", "other", "zero", "even", "odd", "big"]
+JOINERS = [
+    ("nothing", " and ", ", ", " and "),
+    ("", "-", "-", "-"),
+    ("cat", ", dog & ", ", ", " & "),
+]
+FIGURES = [ENGLISH, (3, 2, "'", "~", "0123456789"), (1, 1, "", "+", "!\"#$&()*-.")]
+CALENDARS = [COMMON, ([1], 1, ("rest", 2, 0, 0)), ([3, 4, 5], 3, ("self", 2, None))]
+GAP_KINDS = ["count", "number", "thing", "list", "day", "rank"]
+THINGS = ["cat", "dog", "ant"]
+
+
+def some_tongue(rng, name, falls):
+    calendar = rng.choice(CALENDARS)
+    names = rng.choice([None, ["Jan", "J", "Ja", "b", "c", "d", "e", "f", "g", "h", "i", "j"][:len(calendar[0])]])
+    dayform = (rng.choice(["dmy", "mdy", "ymd", "myd"]), rng.choice([".", "-", ", "]), names)
+    return a_tongue(name, falls, rng.choice(RULES), rng.choice(JOINERS), rng.choice(FIGURES), calendar, dayform)
+
+
+def some_text(rng):
+    return rng.choice(["a", "x", " ", " tiles", "1", "0,", "cat", ", ", "-", "."])
+
+
+def some_names(rng, how, whole):
+    if how == "many":
+        names = rng.sample(WORDS, rng.randrange(0, 4)) + ["=" + str(n) for n in rng.sample(range(12), rng.randrange(3))]
+    elif how == "kind":
+        names = rng.sample(["m", "f", "n", "x"], rng.randrange(0, 4))
+    else:
+        names = rng.sample(["low", "high", "x"], rng.randrange(0, 3))
+    if whole or names == [] or rng.random() < 0.4:
+        names.append("else")
+    rng.shuffle(names)
+    return names
+
+
+def some_call(rng, house, key, keys):
+    kinds = house.gaps(key)
+    called = rng.choice(keys)
+    binds = []
+    for theirs, kind in house.gaps(called):
+        mine = [gap for gap, each in kinds if each == kind]
+        if not mine:
+            return None
+        binds.append((theirs, rng.choice(mine)))
+    rng.shuffle(binds)
+    return ("say", called, binds)
+
+
+def some_piece(rng, house, key, keys, whole, deep=0):
+    """A pattern for a message, which may call those of keys; if whole, each choice has an else."""
+    asked = {"many": ("count", "list"), "kind": ("thing",), "rank": ("rank",)}
+    pattern = []
+    for k in range(rng.choice([0, 1, 1, 2, 3] if deep else [1, 2, 3, 4])):
+        part = None
+        how = rng.choice(["text", "gap", "say", "many", "kind", "rank"] if deep < 3 else ["text", "gap"])
+        if how == "text":
+            part = ("text", some_text(rng))
+        elif how == "say" and keys:
+            part = some_call(rng, house, key, keys)
+        elif how == "gap":
+            mine = [gap for gap, kind in house.gaps(key) if kind != "rank"]
+            part = ("gap", rng.choice(mine)) if mine else None
+        elif how != "say":
+            mine = [gap for gap, kind in house.gaps(key) if kind in asked[how]]
+            if mine:
+                part = (how, rng.choice(mine), [(name, some_piece(rng, house, key, keys, whole, deep + 1))
+                                                for name in some_names(rng, how, whole)])
+        if part is not None and not (part[0] == "text" and pattern and pattern[-1][0] == "text"):
+            pattern.append(part)
+    return pattern
+
+
+def some_house(rng, whole=False):
+    """A house with tongues, messages and pieces; if whole, without choices that lack an arm, without rings and with
+    texts of all things."""
+    names = ["de", "en", "fr", "it"][:rng.randrange(1, 5)]
+    house = a_house([some_tongue(rng, name, rng.sample(names + ["xx"], rng.randrange(1, len(names) + 1)))
+                     for name in names], things=THINGS, kinds=["m", "f", "n"])
+    texts = ["cat", "dog", "ant", "c", "ca", "at", "Catdog"]
+    for name in names:
+        for thing in THINGS:
+            if whole or rng.random() < 0.6:
+                house.word(name, thing, rng.choice(texts), rng.choice(house.kinds()))
+    keys = ["k", "l", "m", "n", "o"][:rng.randrange(1, 6)]
+    for key in keys:
+        kinds = [rng.choice(GAP_KINDS) for k in range(rng.choice([0, 1, 2, 3, 4, 4]))]
+        house.declare(key, list(zip(rng.sample(["a", "b", "c", "d", "e"], len(kinds)), kinds)), rng.random() < 0.15)
+    for k, key in enumerate(keys):
+        for name in names:
+            if rng.random() < 0.7:
+                called = keys[k + 1:] if whole or rng.random() < 0.7 else keys
+                house.put(name, key, some_piece(rng, house, key, called, whole))
+    return house
+
+
+def some_value(rng, house, kind):
+    if kind in ("count", "day"):
+        return rng.choice([0, 1, 2, 3, 5, 11, 12, 22, 100, 1234, rng.randrange(40), rng.randrange(GREAT)])
+    if kind == "number":
+        return rng.choice([0, 1, -1, 12, -1234, rng.randrange(GREAT), -rng.randrange(GREAT)])
+    if kind == "thing":
+        return rng.choice(house.things())
+    if kind == "rank":
+        return rng.choice(house.ranks())
+    return [rng.choice(house.things()) for k in range(rng.randrange(9))]
+
+
+def some_values(rng, house, key):
+    return {gap: some_value(rng, house, kind) for gap, kind in house.gaps(key)}
