@@ -15,8 +15,6 @@ def shown_number(figures, number):
 
 
 def grouped(row, first, further, sign):
-    if sign == "":
-        return row
     left = row[:-first]
     text = row[-first:]
     while left != "":

@@ -22,7 +22,7 @@ def flaws(house, tongue, key):
     weights = weighed(house, calls)
     found = unfound(calls) + unnamed(house, calls) + lacking(house, calls)
     if first not in weights:
-        return found + [("round", ring(calls, weights))]
+        return found + [("round", ring(first, calls, weights))]
     parts, deep = weights[first]
     if parts > MOST_PARTS or deep > MOST_DEEP:
         found.append(("great", parts, deep))
@@ -101,9 +101,9 @@ def weight_of(house, pair, called):
     return (parts, 1 + max([weight[1] for weight in called], default=0))
 
 
-# Each pair that isn't weighed calls another such one, so going from one to the next comes to a ring.
-def ring(calls, weights):
-    pairs = [pair for pair in calls if pair not in weights][:1]
+# A pair that isn't weighed calls another such one, so going from one to the next comes to a ring.
+def ring(first, calls, weights):
+    pairs = [first]
     while True:
         further = [called for called in calls[pairs[-1]] if not is_weighed(called, weights)][0]
         if further in pairs:

@@ -148,7 +148,7 @@ def part_at(pattern, place):
     part = pattern[place[0]]
     if len(place) == 1:
         return copied_part(part)
-    if len(place) == 2 or not is_choice(part) or not 0 <= place[1] < len(part[2]):
+    if not is_choice(part) or not 0 <= place[1] < len(part[2]):
         raise NoPlace(f"{place!r} is the place of no part")
     name, within = part[2][place[1]]
     return part_at(within, place[2:])

@@ -65,18 +65,22 @@ def has_bit(bits, number):
     return (bits >> number) & 1 == 1
 
 
+# The bits of one row of m numbers are worked out one by one, and then laid side by side as often as m goes into 300.
 def rest_bits(m, a, b):
-    bits = 0
+    row = 0
     bit = 1
-    for n in range(ROUND):
-        if a <= n % m <= b:
-            bits = bits + bit
+    for n in range(m):
+        if a <= n <= b:
+            row = row + bit
         bit = bit * 2
+    bits = 0
+    for k in range(ROUND // m):
+        bits = bits * bit + row
     return bits
 
 
 def all_bits():
-    return rest_bits(1, 0, 0)
+    return rest_bits(20, 0, 19)
 
 
 def spans_of(condition):
@@ -105,7 +109,8 @@ def either_bits(one, other):
 def self_spans(a, b):
     every = all_bits()
     spans = [(0, 0)]
-    add_span(spans, max(a, 0), every)
+    if b is None or a <= b:
+        add_span(spans, max(a, 0), every)
     if b is not None:
         add_span(spans, max(b + 1, 0), 0)
     return spans

@@ -312,6 +312,20 @@ class TestUses(HouseTest):
                       [("a", "count"), ("b", "count"), ("b", "count")]):
             self.assert_refused(NoValue, house, house.put, "de", "k", [("say", "two", binds)])
 
+    def test_gaps_bound_in_any_order(self):
+        house = self.house()
+        house.declare("turned", [("z", "count"), ("a", "list"), ("m", "count")])
+        for text in ("{@turned z=count a=list m=count}", "{@turned m=count z=count a=list}"):
+            put(house, "de", "k", text)
+            self.assertEqual(shown(house.piece("de", "k")), text)
+        for text in ("{@turned z=list a=count m=count}", "{@turned a=list m=count}"):
+            self.assert_refused(NoValue, house, house.put, "de", "k", read(text))
+
+    def test_a_gap_bound_twice_and_to_a_gap_that_is_not_declared(self):
+        house = self.house()
+        for binds in ([("a", "count"), ("a", "x"), ("b", "count")], [("a", "x"), ("a", "y")]):
+            self.assert_refused(NoValue, house, house.put, "de", "k", [("say", "two", binds)])
+
     def test_a_call_of_itself(self):
         house = self.house()
         put(house, "de", "two", "{@two a=b b=a}")

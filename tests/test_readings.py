@@ -267,6 +267,16 @@ class TestHidden(ReadingTest):
         self.assertEqual(told_of(house)[5:], before)
 
 
+    def test_lists_that_were_shown_ahead_of_a_choice_are_each_readings_own(self):
+        house = house_with("{l}{#n one[] few[] else[]}", [("n", "count"), ("l", "list")], rules=SLAVIC)
+        told = readings(house, "de", "k", "cat and dog")
+        self.assertEqual(len(told), 3)
+        told[0][1][2].clear()
+        told[1][1][2].append("x")
+        self.assertEqual(told[2][1], ("l", "shown", ["cat", "dog"]))
+        self.assertEqual(told[1][1], ("l", "shown", ["cat", "dog", "x"]))
+
+
 class TestCalls(ReadingTest):
     def house(self):
         house = a_house([

@@ -182,6 +182,14 @@ class TestBounds(RulesTest):
         self.assert_good("a: (" + six + " or not " + six + "); b")
         self.assert_refused("a: (" + six + " or " + six + " or not self from 2); b")
 
+    def test_twelve_within_a_not(self):
+        for most in (12, 13):
+            text = "a: not (" + " and ".join(["self from 1"] * most) + "); b"
+            if most <= 12:
+                self.assert_good(text)
+            else:
+                self.assert_refused(text)
+
     def test_twenty_four_in_all(self):
         twelve = "(" + " or ".join(["self from 1"] * 12) + ")"
         six = "(" + " or ".join(["rest 3 in 0..1"] * 6) + ")"
@@ -209,6 +217,17 @@ class TestBounds(RulesTest):
         self.assert_refused("a: not (not (not self from 1 and self from 2) or self from 3); b")
         self.assert_good("a: (self from 1 or (self from 1 or (self from 1 or not self from 2))); b")
         self.assert_refused("a: (self from 1 or (self from 1 or (self from 1 or not not self from 2))); b")
+
+    def test_four_deep_at_each_place_of_a_bracket(self):
+        for place in range(4):
+            for within, fits in (("not not not self from 1", True), ("not not not not self from 1", False)):
+                row = ["self from 2"] * 4
+                row[place] = within
+                text = "a: (" + " or ".join(row) + "); b"
+                if fits:
+                    self.assert_good(text)
+                else:
+                    self.assert_refused(text)
 
     def test_very_deep_texts(self):
         for deep in (100, 900):
